@@ -1,0 +1,1 @@
+"""Beatgrid: nets of like cells that pass numbers at each beat."""
