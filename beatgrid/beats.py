@@ -50,11 +50,10 @@ def beat(net, state, lefts, tops):
 def run(net, feed, beats):
     """The states behind all beats, one behind the other."""
     check_run(net, feed, beats)
-    lefts, tops = feed
     state = at_first(net)
     states = []
     for when in range(beats):
-        state = state_behind(net, state, fed_at(lefts, when), fed_at(tops, when))
+        state = state_fed(net, feed, state, when)
         states.append(state)
     return states
 
@@ -64,25 +63,36 @@ def kept_in(state):
     return tuple([tuple([cell[0] for cell in row]) for row in state])
 
 
+def state_fed(net, feed, state, when):
+    """The state behind a beat of the feed, by the state ahead of it."""
+    lefts, tops = feed
+    return state_behind(net, state, fed_at(lefts, when), fed_at(tops, when))
+
+
 def state_behind(net, state, lefts, tops):
     """The state behind one beat, where nothing is to be refused any more."""
-    cell_of_kind = CELLS[net[0]]
     rows = []
     above = tops
     for row, left in zip(state, lefts):
-        rows.append(row_behind(cell_of_kind, row, left, above))
+        rows.append(row_behind(net[0], row, left, above))
         # The row below takes what this one passed in the state ahead, not what it passes now.
         above = [cell[2] for cell in row]
     return tuple(rows)
 
 
-def row_behind(cell_of_kind, row, left, above):
+def row_behind(kind, row, left, above):
     """One row behind one beat, by what comes from the left and from above."""
     cells = []
     for cell, top in zip(row, above):
-        cells.append(cell_of_kind(cell[0], left, top))
+        cells.append(cell_behind(kind, cell[0], left, top))
         left = cell[1]
     return tuple(cells)
+
+
+def cell_behind(kind, kept, left, above):
+    """What a cell of a net of that kind keeps and passes, by what it kept and what it takes."""
+    cell_of_kind = CELLS[kind]
+    return cell_of_kind(kept, left, above)
 
 
 def fed_at(lines, when):

@@ -5,6 +5,8 @@ from beatgrid.errors import NoCount, NoFeed, NoNet
 KINDS = ("product", "paths", "sorting")
 MOST_LINES = 6
 MOST_BEATS = 60
+# A cell is told as what it keeps, what it passes to the right and what it passes down.
+PARTS = 3
 
 
 def check_net(net):
@@ -33,9 +35,14 @@ def check_beats(beats):
         raise NoCount("the beats are not 0 to 60")
 
 
-def check_run(net, feed, beats):
-    """Refuse what makes no run, in the order in which the errors go first."""
+def check_fed_net(net, feed):
+    """Refuse what is no net ahead of what is no feed of it."""
     check_net(net)
     lefts, tops = feed
     check_feed(net, lefts, tops)
+
+
+def check_run(net, feed, beats):
+    """Refuse what makes no run, in the order in which the errors go first."""
+    check_fed_net(net, feed)
     check_beats(beats)

@@ -7,6 +7,11 @@ from beatgrid.checks import check_run
 def told_by_sum(net, feed, beats):
     """What all cells of the net keep behind so many beats."""
     check_run(net, feed, beats)
+    return kept_by_sum(net, feed, beats)
+
+
+def kept_by_sum(net, feed, beats):
+    """What all cells keep behind any count of beats, where nothing is to be refused any more."""
     kind, rows, columns = net
     lefts, tops = feed
     kept_by = SUMS[kind]

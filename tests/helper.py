@@ -1,6 +1,9 @@
 """What several tests of the project share: nets, feeds with every kind of line, and shapes of what is told."""
 
 import random
+import unittest
+
+from beatgrid.errors import GridError, NoCount, NoFault, NoFeed, NoNet, NoSchedule, NoTable, NoText
 
 KINDS = ("product", "paths", "sorting")
 SIZES = ((1, 1), (1, 6), (6, 1), (2, 3), (3, 2), (4, 4), (5, 2), (6, 6))
@@ -10,10 +13,35 @@ NO_NETS = (
     ("sorting", 2, -1), ("product", 0, 0), ("paths", 7, 7), ("sorting", 100, 2), ("sorting", 2, 100),
     ("product", 10 ** 29, 1), ("product", 1, -10 ** 29),
 )
+REFUSALS = (NoNet, NoFeed, NoCount, NoTable, NoFault, NoSchedule, NoText)
+COUNTS_REFUSED = (-1, 61, -2, 62, -60, 1000, 10 ** 29, -10 ** 29)
+
+
+class Asking(unittest.TestCase):
+    def refuses(self, refusal, asked, *handed_in):
+        """The error by which this is refused: of that class, and of none of the others."""
+        with self.assertRaises(ValueError) as caught:
+            asked(*handed_in)
+        self.assertIsInstance(caught.exception, GridError)
+        self.assertEqual([one for one in REFUSALS if isinstance(caught.exception, one)], [refusal])
+        return caught.exception
 
 
 def empty_feed(rows, columns):
     return ((),) * rows, ((),) * columns
+
+
+def feeds_refused(rows, columns):
+    """Feeds with a row or a column more or fewer, or many more, or rows and columns taken for each other."""
+    counts = [
+        (rows + 1, columns), (rows - 1, columns), (rows, columns + 1), (rows, columns - 1),
+        (rows + 1, columns - 1), (rows + 90, columns), (rows, columns + 90), (0, 0),
+    ]
+    if rows != columns:
+        counts.append((columns, rows))
+    for count in counts:
+        yield empty_feed(*count)
+        yield tuple([((1, 2),) * many for many in count])
 
 
 def some_number(chance):

@@ -15,6 +15,19 @@ INTERFACE = {
         "kept_in": ["state"],
     },
     "sums": {"told_by_sum": ["net", "feed", "beats"]},
+    "made": {
+        "feeds": ["one", "other"], "beats_for": ["one", "other"], "multiplied": ["one", "other"],
+        "shortest": ["lengths"], "in_order": ["numbers"],
+    },
+    "judging": {
+        "faulty": ["net", "feed", "beats", "faults"], "judged": ["net", "feed", "states"],
+        "off_sum": ["net", "feed", "states"],
+    },
+    "folding": {
+        "wrong": ["net", "beats", "schedule"], "folded_run": ["net", "feed", "beats", "schedule"],
+        "folded": ["net", "beats", "workers"],
+    },
+    "notes": {"written": ["state"], "read": ["text"]},
 }
 
 

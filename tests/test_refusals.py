@@ -3,34 +3,39 @@
 import unittest
 
 from beatgrid.beats import at_first, beat, kept_in, run
-from beatgrid.errors import GridError, NoCount, NoFault, NoFeed, NoNet, NoSchedule, NoTable, NoText
+from beatgrid.errors import NoCount, NoFault, NoFeed, NoNet, NoSchedule
+from beatgrid.folding import folded, folded_run, wrong
+from beatgrid.judging import faulty, judged, off_sum
 from beatgrid.sums import told_by_sum
-from helper import KINDS, NO_NETS, SIZES, empty_feed
-
-REFUSALS = (NoNet, NoFeed, NoCount, NoTable, NoFault, NoSchedule, NoText)
-COUNTS_REFUSED = (-1, 61, -2, 62, -60, 1000, 10 ** 29, -10 ** 29)
+from helper import COUNTS_REFUSED, KINDS, NO_NETS, SIZES, Asking, empty_feed, feeds_refused
 
 
-def feeds_refused(rows, columns):
-    """Feeds with a row or a column more or fewer, or many more, or rows and columns taken for each other."""
-    counts = [
-        (rows + 1, columns), (rows - 1, columns), (rows, columns + 1), (rows, columns - 1),
-        (rows + 1, columns - 1), (rows + 90, columns), (rows, columns + 90), (0, 0),
+BAD_FAULTS = [(99, 99, 99, 99, 99)]
+BAD_SCHEDULE = [((99, 99, 99),)]
+
+
+def asked_of_a_run(net, feed, beats):
+    """All that is handed a net, a feed and a count of beats, and further on what is refused itself."""
+    return [
+        (run, net, feed, beats), (told_by_sum, net, feed, beats), (faulty, net, feed, beats, []),
+        (faulty, net, feed, beats, BAD_FAULTS), (folded_run, net, feed, beats, []),
+        (folded_run, net, feed, beats, BAD_SCHEDULE),
     ]
-    if rows != columns:
-        counts.append((columns, rows))
-    for count in counts:
-        yield empty_feed(*count)
-        yield tuple([((1, 2),) * many for many in count])
 
 
-class Refusals(unittest.TestCase):
-    def refuses(self, refusal, asked, *handed_in):
-        with self.assertRaises(ValueError) as caught:
-            asked(*handed_in)
-        self.assertIsInstance(caught.exception, GridError)
-        self.assertEqual([one for one in REFUSALS if isinstance(caught.exception, one)], [refusal])
+def asked_of_a_feed(net, feed):
+    """All that is handed a net, a feed and no count of beats."""
+    return [(asked, net, feed, states) for asked in (judged, off_sum) for states in ([], [(((0, None, None),),)])]
 
+
+def asked_of_beats(net, beats):
+    """All that is handed a net, a count of beats and no feed."""
+    return [
+        (wrong, net, beats, []), (wrong, net, beats, BAD_SCHEDULE), (folded, net, beats, 1), (folded, net, beats, 0),
+    ]
+
+
+class Refusals(Asking):
     def beat_refuses(self, refusal, net, lefts, tops):
         _, rows, columns = net
         state = (((0, None, None),) * columns,) * rows
@@ -43,8 +48,8 @@ class Refusals(unittest.TestCase):
                 state = (((0, None, None),) * len(feed[1]),) * len(feed[0])
                 self.refuses(NoNet, at_first, net)
                 self.refuses(NoNet, beat, net, state, (None,) * len(feed[0]), (None,) * len(feed[1]))
-                self.refuses(NoNet, run, net, feed, 3)
-                self.refuses(NoNet, told_by_sum, net, feed, 3)
+                for handed_in in asked_of_a_run(net, feed, 3) + asked_of_a_feed(net, feed) + asked_of_beats(net, 3):
+                    self.refuses(NoNet, *handed_in)
 
     def test_each_size_from_1_to_6_is_a_net(self):
         for kind in KINDS:
@@ -53,8 +58,14 @@ class Refusals(unittest.TestCase):
                     net = (kind, rows, columns)
                     state = at_first(net)
                     self.assertEqual(beat(net, state, (None,) * rows, (None,) * columns), state)
-                    self.assertEqual(run(net, empty_feed(rows, columns), 2), [state, state])
-                    self.assertEqual(told_by_sum(net, empty_feed(rows, columns), 2), kept_in(state))
+                    feed = empty_feed(rows, columns)
+                    self.assertEqual(run(net, feed, 2), [state, state])
+                    self.assertEqual(told_by_sum(net, feed, 2), kept_in(state))
+                    self.assertEqual(faulty(net, feed, 2, []), [state, state])
+                    self.assertIsNone(judged(net, feed, [state, state]))
+                    self.assertIsNone(off_sum(net, feed, [state, state]))
+                    self.assertIsNone(wrong(net, 2, folded(net, 2, 1)))
+                    self.assertEqual(folded_run(net, feed, 2, folded(net, 2, 1)), kept_in(state))
 
     def test_another_count_of_rows_or_columns(self):
         for kind in KINDS:
@@ -64,23 +75,28 @@ class Refusals(unittest.TestCase):
                     with self.subTest(net=net, feed=feed):
                         lefts, tops = feed
                         self.beat_refuses(NoFeed, net, (1,) * len(lefts), (None,) * len(tops))
-                        self.refuses(NoFeed, run, net, feed, 3)
-                        self.refuses(NoFeed, run, net, feed, 0)
-                        self.refuses(NoFeed, told_by_sum, net, feed, 3)
-                        self.refuses(NoFeed, told_by_sum, net, feed, 0)
+                        for handed_in in asked_of_a_run(net, feed, 3) + asked_of_a_run(net, feed, 0):
+                            self.refuses(NoFeed, *handed_in)
+                        for handed_in in asked_of_a_feed(net, feed):
+                            self.refuses(NoFeed, *handed_in)
 
     def test_a_count_of_beats_that_is_not_0_to_60(self):
         for kind in KINDS:
             for rows, columns in SIZES:
+                net = (kind, rows, columns)
                 for beats in COUNTS_REFUSED:
-                    self.refuses(NoCount, run, (kind, rows, columns), empty_feed(rows, columns), beats)
-                    self.refuses(NoCount, told_by_sum, (kind, rows, columns), empty_feed(rows, columns), beats)
+                    for handed_in in asked_of_a_run(net, empty_feed(rows, columns), beats) + asked_of_beats(net, beats):
+                        self.refuses(NoCount, *handed_in)
 
     def test_each_count_of_beats_from_0_to_60(self):
         for kind in KINDS:
             for beats in range(61):
                 self.assertEqual(len(run((kind, 1, 2), empty_feed(1, 2), beats)), beats)
                 self.assertEqual(len(told_by_sum((kind, 1, 2), empty_feed(1, 2), beats)), 1)
+                self.assertEqual(len(faulty((kind, 1, 2), empty_feed(1, 2), beats, [])), beats)
+                schedule = folded((kind, 1, 2), beats, 2)
+                self.assertIsNone(wrong((kind, 1, 2), beats, schedule))
+                self.assertEqual(len(folded_run((kind, 1, 2), empty_feed(1, 2), beats, schedule)), 1)
 
     def test_no_net_goes_ahead_of_no_feed_and_no_count(self):
         for net in NO_NETS:
@@ -88,15 +104,25 @@ class Refusals(unittest.TestCase):
                 lefts, tops = feed
                 self.refuses(NoNet, beat, net, (((0, None, None),),), (None,) * len(lefts), (None,) * len(tops))
                 for beats in (0, 3, -1, 61):
-                    self.refuses(NoNet, run, net, feed, beats)
-                    self.refuses(NoNet, told_by_sum, net, feed, beats)
+                    for handed_in in asked_of_a_run(net, feed, beats) + asked_of_beats(net, beats):
+                        self.refuses(NoNet, *handed_in)
+                for handed_in in asked_of_a_feed(net, feed):
+                    self.refuses(NoNet, *handed_in)
 
     def test_no_feed_goes_ahead_of_no_count(self):
         for kind in KINDS:
             for feed in feeds_refused(2, 3):
                 for beats in (-1, 61):
-                    self.refuses(NoFeed, run, (kind, 2, 3), feed, beats)
-                    self.refuses(NoFeed, told_by_sum, (kind, 2, 3), feed, beats)
+                    for handed_in in asked_of_a_run((kind, 2, 3), feed, beats):
+                        self.refuses(NoFeed, *handed_in)
+
+    def test_what_is_refused_where_nothing_else_is(self):
+        for kind in KINDS:
+            net, feed = (kind, 2, 3), empty_feed(2, 3)
+            self.refuses(NoFault, faulty, net, feed, 3, BAD_FAULTS)
+            self.refuses(NoSchedule, folded_run, net, feed, 3, BAD_SCHEDULE)
+            self.refuses(NoSchedule, folded_run, net, feed, 3, [])
+            self.refuses(NoCount, folded, net, 3, 0)
 
     def test_a_feed_of_any_length_is_none_to_refuse(self):
         for length in (0, 1, 59, 60, 61, 100):
